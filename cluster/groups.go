@@ -65,7 +65,7 @@ func (c *Cluster) arrive(n *node, from, kind int, body []byte) {
 	case kindRequest:
 		c.takeRequest(n, from, body)
 	case kindAnswer, kindRefusal:
-		c.takeAnswer(n, kind, body)
+		c.takeAnswer(n, from, kind, body)
 	}
 }
 

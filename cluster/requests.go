@@ -135,7 +135,7 @@ func (c *Cluster) reply(n *node, w caller, r api.Res) {
 }
 
 // takeAnswer takes what has come of a request.
-func (c *Cluster) takeAnswer(n *node, kind int, body []byte) {
+func (c *Cluster) takeAnswer(n *node, from, kind int, body []byte) {
 	m := n.memory
 	var call, hint int
 	b, ok := counts(body, &call)
@@ -154,6 +154,7 @@ func (c *Cluster) takeAnswer(n *node, kind int, body []byte) {
 	if e != api.OK {
 		return
 	}
+	m.hints[d.asked.Range] = from
 	delete(m.calls, call)
 	d.call = 0
 	c.answered(n, d, r)
