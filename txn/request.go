@@ -28,9 +28,10 @@ func isSpanned(kind int) bool {
 	return kind == api.CmdScan || kind == api.CmdRefresh || kind == api.CmdResolve
 }
 
-// partOf is the range that a span begins in, and what of the span that has.
+// partOf is the range that a span begins in, and what of the span that has; how old the ranges are does not count.
 func partOf(l []api.Range, p api.Span) (int, api.Span, bool) {
 	for _, r := range l {
+		r.Gen = 1
 		c := rangemeta.Fresh()
 		c.Learn(r)
 		parts, _ := c.Cut(p)
