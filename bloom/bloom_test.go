@@ -100,6 +100,9 @@ func TestMay(t *testing.T) {
 	if bloom.May(thirty, key) {
 		t.Error("30 probes are valid")
 	}
+	if bloom.May(append([]byte{1}, make([]byte, 8)...), key) {
+		t.Error("one probe is valid")
+	}
 	f, _ := bloom.Make([][]byte{key}, 10)
 	for i := 8; i < 72; i++ {
 		if f[i/8]>>(i%8)&1 == 1 {

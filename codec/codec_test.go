@@ -127,8 +127,12 @@ func TestFrame(t *testing.T) {
 	if b, e := codec.Frame(1, long); b != nil || e != api.ErrCodecLong {
 		t.Errorf("too long: %d", e)
 	}
-	if b, e := codec.Frame(1, long[1:]); len(b) != api.MaxFrame+9 || e != api.OK {
+	b, e := codec.Frame(1, long[1:])
+	if len(b) != api.MaxFrame+9 || e != api.OK {
 		t.Errorf("the longest: %d %d", len(b), e)
+	}
+	if k, body, n, e := codec.TakeFrame(b); k != 1 || len(body) != api.MaxFrame || n != len(b) || e != api.OK {
+		t.Errorf("the longest: %d %d %d", len(body), n, e)
 	}
 	for b, want := range map[string]api.Errno{"": api.ErrCodecShort, "\x01": api.ErrCodecShort, "\x01\x80\x00": api.ErrCodecForm, "\x01\x81\x80\x80\x01": api.ErrCodecLong, "\x01\x00\x00\x00\x00": api.ErrCodecShort, "\x01\x00\x00\x00\x00\x00": api.ErrCodecSum} {
 		if k, body, n, e := codec.TakeFrame([]byte(b)); k != 0 || body != nil || n != 0 || e != want {
@@ -146,6 +150,9 @@ func TestKeyForms(t *testing.T) {
 		}
 		if m, k, e := codec.TakeKeyInt([]byte(want + "x")); m != n || k != 8 || e != api.OK {
 			t.Errorf("TakeKeyInt(%d): %d %d %d", n, m, k, e)
+		}
+		if m, k, e := codec.TakeKeyInt([]byte(want)); m != n || k != 8 || e != api.OK {
+			t.Errorf("TakeKeyInt(%d), nothing behind it: %d %d %d", n, m, k, e)
 		}
 		for i := range 8 {
 			if m, k, e := codec.TakeKeyInt([]byte(want[:i])); m != 0 || k != 0 || e != api.ErrCodecShort {

@@ -461,6 +461,90 @@ func TestCompact(t *testing.T) {
 	files(t, d, "cur t11 w10")
 }
 
+// P7.6: which tables a compaction takes, and how it divides what remains.
+func TestChoice(t *testing.T) {
+	d := newDisk(1000000)
+	c := api.StoreConfig{MemBytes: 30, BlockBytes: 64, PerKey: 10, Fanout: 3}
+	s, _ := open(t, d, c)
+	fill := func(keys string) {
+		t.Helper()
+		for _, k := range keys {
+			code(t, "Write", s.Write([]api.Op{put(string(k), "v")}), api.OK)
+		}
+		code(t, "Flush", s.Flush(), api.OK)
+	}
+	shown := func(want string) {
+		t.Helper()
+		var l []string
+		for n, level := range s.Levels() {
+			for _, x := range level {
+				l = append(l, fmt.Sprintf("%d:%s-%s", n, x.First, x.Last))
+			}
+		}
+		if got := strings.Join(l, " "); got != want {
+			t.Errorf("%s, want %s", got, want)
+		}
+	}
+	compact := func() {
+		t.Helper()
+		if again, e := s.Compact(); !again || e != api.OK {
+			t.Errorf("Compact: %v %d", again, e)
+		}
+	}
+	for _, k := range []string{"b", "d", "f"} {
+		fill(k)
+	}
+	fill("h")
+	compact()
+	shown("1:b-f 1:h-h")
+	for _, k := range []string{"j", "k", "l"} {
+		fill(k)
+	}
+	fill("m")
+	compact()
+	shown("1:b-f 1:h-h 1:j-l 1:m-m")
+	compact()
+	shown("1:h-h 1:j-l 1:m-m 2:b-f")
+	for _, k := range []string{"i", "g", "h"} {
+		fill(k)
+	}
+	fill("i")
+	before := s.Levels()[1][2].File
+	compact()
+	shown("1:g-i 1:j-l 1:m-m 2:b-f")
+	if s.Levels()[1][2].File != before {
+		t.Error("a table that does not overlap was taken")
+	}
+	for _, k := range []string{"l", "n", "o"} {
+		fill(k)
+	}
+	fill("p")
+	compact()
+	shown("1:g-i 1:j-l 1:m-o 1:p-p 2:b-f")
+}
+
+// P7.6: a deletion that only a snapshot of its own moment can see goes.
+func TestNeedlessDeletion(t *testing.T) {
+	for _, wait := range []int{0, 1} {
+		s, _ := open(t, newDisk(1000000), api.StoreConfig{MemBytes: 1000, BlockBytes: 64, PerKey: 10, Fanout: 1})
+		s.Write([]api.Op{put("x", "1")})
+		if wait == 0 {
+			s.Snap()
+		}
+		s.Write([]api.Op{del("a")})
+		if wait == 1 {
+			s.Snap()
+		}
+		s.Flush()
+		s.Write([]api.Op{put("z", "1")})
+		s.Flush()
+		s.Compact()
+		if n := s.Levels()[1][0].Entries; n != 3-wait {
+			t.Errorf("%d entries", n)
+		}
+	}
+}
+
 // A deletion stays as long as a deeper level may have the key.
 func TestDeletionStays(t *testing.T) {
 	d := newDisk(1000000)

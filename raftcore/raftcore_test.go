@@ -327,6 +327,10 @@ func TestProposeAndChange(t *testing.T) {
 	is(t, "Propose", e, api.ErrArg)
 	_, _, e = r.Change([]int{1, 2})
 	is(t, "the commit index is of no own term", e, api.ErrRaftChange)
+	one := leader(t, newLog(1), 0)
+	_, _, e = one.Propose(make([]byte, 12000))
+	is(t, "Propose", e, api.OK)
+	is(t, "the roles", []int{raftcore.Follower, raftcore.Candidate, raftcore.Leader}, []int{1, 2, 3})
 	data := []byte("x")
 	i, l, e := r.Propose(data)
 	data[0] = 'y'

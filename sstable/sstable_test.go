@@ -120,6 +120,15 @@ func TestBuildErrors(t *testing.T) {
 		t.Errorf("a table that is long enough: %d", e)
 	}
 	l = nil
+	for i := range api.MaxTabled {
+		l = append(l, put(fmt.Sprintf("%05d", i), 1, ""))
+	}
+	if b, e := sstable.Build(l, 4096, 10); e != api.OK {
+		t.Errorf("as many entries as may be: %d", e)
+	} else if x := open(t, b); x.Count() != api.MaxTabled {
+		t.Errorf("as many entries as may be: %d", x.Count())
+	}
+	l = nil
 	for i := range 8300 {
 		l = append(l, put(fmt.Sprintf("%05d%s", i, long(247)), 1, ""))
 	}
