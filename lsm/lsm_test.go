@@ -103,7 +103,7 @@ func TestExample(t *testing.T) {
 	if l, _ := s.Scan(api.Span{}); text(l) != "c=3" {
 		t.Errorf("Scan: %s", text(l))
 	}
-	if _, _, e := s.GetAt([]byte("b"), 4); e != api.ErrStoreSnap {
+	if v, ok, e := s.GetAt([]byte("c"), 4); v != nil || ok || e != api.ErrStoreSnap {
 		t.Errorf("a snapshot lasts: %d", e)
 	}
 	b, _ := d.Read("cur")
@@ -245,14 +245,23 @@ func TestClosedAndSick(t *testing.T) {
 	check := func(s *lsm.Store, want api.Errno) {
 		t.Helper()
 		code(t, "Write", s.Write(nil), want)
-		_, _, e := s.Get(nil)
+		v, ok, e := s.Get([]byte("a"))
 		code(t, "Get", e, want)
-		_, _, e = s.GetAt(nil, 77)
+		if v != nil || ok {
+			t.Error("Get")
+		}
+		v, ok, e = s.GetAt([]byte("a"), 77)
 		code(t, "GetAt", e, want)
-		_, e = s.Scan(api.Span{})
+		if v != nil || ok {
+			t.Error("GetAt")
+		}
+		l, e := s.Scan(api.Span{})
 		code(t, "Scan", e, want)
-		_, e = s.ScanAt(api.Span{}, 77)
+		m, e := s.ScanAt(api.Span{}, 77)
 		code(t, "ScanAt", e, want)
+		if len(l)+len(m) > 0 {
+			t.Error("Scan")
+		}
 		for range s.All() {
 			t.Error("All")
 		}
@@ -521,6 +530,33 @@ func TestChoice(t *testing.T) {
 	fill("p")
 	compact()
 	shown("1:g-i 1:j-l 1:m-o 1:p-p 2:b-f")
+}
+
+// P7.3: a memtable that is just full is not flushed. P7.6: what only a snapshot of a newer entry's moment could see goes.
+func TestJustFull(t *testing.T) {
+	d := newDisk(1000000)
+	s, _ := open(t, d, api.StoreConfig{MemBytes: 18, BlockBytes: 64, PerKey: 10, Fanout: 1})
+	s.Write([]api.Op{put("a", "1")})
+	s.Write([]api.Op{put("a", "2")})
+	files(t, d, "cur w1")
+	s.Snap()
+	s.Flush()
+	if n := s.Levels()[0][0].Entries; n != 1 {
+		t.Errorf("%d entries", n)
+	}
+	for _, keep := range []uint64{1, 2} {
+		s, _ := open(t, newDisk(1000000), small)
+		s.Write([]api.Op{put("a", "1")})
+		if keep == 1 {
+			s.Snap()
+		}
+		s.Write([]api.Op{put("a", "2")})
+		s.Write([]api.Op{put("a", "3")})
+		s.Flush()
+		if n := s.Levels()[0][0].Entries; n != 3-int(keep) {
+			t.Errorf("%d entries", n)
+		}
+	}
 }
 
 // P7.6: a deletion that only a snapshot of its own moment can see goes.

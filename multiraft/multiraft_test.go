@@ -250,6 +250,8 @@ func TestDoneAndInstall(t *testing.T) {
 	ops[0].Key[0], ops[0].Value[0] = 'z', 'z'
 	l, _ = m.Data(1)
 	is(t, "Data", []any{len(l), string(l[207].Key), string(l[207].Value)}, []any{208, long[1:], "v"})
+	m.Propose(1, nil)
+	is(t, "Done", m.Done(1, 4, []api.Op{put("long", strings.Repeat("v", api.MaxValue))}), api.OK)
 	m.Plant(2, []int{1}, []byte("st"))
 	_, ok, _ = m.Next(2)
 	is(t, "Next", ok, false)

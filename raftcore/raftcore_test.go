@@ -330,6 +330,9 @@ func TestProposeAndChange(t *testing.T) {
 	one := leader(t, newLog(1), 0)
 	_, _, e = one.Propose(make([]byte, 12000))
 	is(t, "Propose", e, api.OK)
+	full := leader(t, loaded(t, raftlog.Point{Index: api.MaxWall, Term: 1, Members: []int{1}}, nil, api.MaxWall), 1)
+	_, l, e = full.Propose(nil)
+	is(t, "a log that is at its end", []int{len(l), int(e)}, []int{0, int(api.ErrArg)})
 	is(t, "the roles", []int{raftcore.Follower, raftcore.Candidate, raftcore.Leader}, []int{1, 2, 3})
 	data := []byte("x")
 	i, l, e := r.Propose(data)
@@ -339,7 +342,7 @@ func TestProposeAndChange(t *testing.T) {
 	x, _ := r.Log().At(2)
 	is(t, "At", string(x.Data), "x")
 	step(t, r, appended(2, 1, true, 2))
-	for _, c := range [][]int{nil, {0}, {2, 1}, {1, 6}} {
+	for _, c := range [][]int{nil, {0}, {2, 1}, {1, 1}, {1, 2, 2, 3}, {1, 6}} {
 		_, _, e = r.Change(c)
 		is(t, "Change", e, api.ErrArg)
 	}

@@ -156,6 +156,8 @@ func TestSplitAndCut(t *testing.T) {
 	for p, want := range map[[2]string]string{{"", ""}: "1[,m)2:[,m) 2[m,x)3:[m,x) 3[x,)3:[x,)", {"m", "x"}: "2[m,x)3:[m,x)", {"l", "m"}: "1[,m)2:[l,m)", {"x", ""}: "3[x,)3:[x,)", {"b", "b"}: "", {"b", "a"}: "", {"z", "zz"}: "3[x,)3:[z,zz)", {"n", "y"}: "2[m,x)3:[n,x) 3[x,)3:[x,y)"} {
 		is(t, "Cut", showParts(x.Cut(span(p[0], p[1]))), want)
 	}
+	z := rangemeta.New()
+	is(t, "Split", z.Split(1, []byte("m"), 255), api.OK)
 	parts := x.Cut(span("", ""))
 	parts[1].Span.From[0], parts[1].Range.Span.To[0] = 'q', 'q'
 	is(t, "Cut", showParts(x.Cut(span("m", "x"))), "2[m,x)3:[m,x)")

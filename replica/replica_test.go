@@ -181,7 +181,7 @@ func TestCommandForms(t *testing.T) {
 func TestAnswerForms(t *testing.T) {
 	row := api.KV{Key: []byte("k"), Value: []byte("v")}
 	right := []api.Res{
-		{}, {Code: 999, State: 3, By: api.MaxWall, At: end}, {Got: api.Got{Found: true, Value: make([]byte, 10000), At: at(1, 2), By: 5}},
+		{}, {Code: 999, State: 3, By: api.MaxWall, At: end, Got: api.Got{By: api.MaxWall}}, {Got: api.Got{Found: true, Value: make([]byte, 10000), At: at(1, 2), By: 5}},
 		{Rows: []api.KV{row, {Key: []byte("l")}}}, {Rows: slices.Repeat([]api.KV{{Key: make([]byte, 110), Value: make([]byte, 10000)}}, 90)},
 	}
 	for i, r := range right {

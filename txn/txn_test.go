@@ -345,7 +345,7 @@ func TestErrors(t *testing.T) {
 	x.Write([]api.Op{put("a", "")})
 	do(t, x, one, 1, "begin 7 seq 1 at 5.0", api.Res{Code: api.ErrReplicaFull})
 	state(t, x, txn.Over)
-	for _, r := range []api.Res{{}, {State: 4}, {Code: api.ErrReplicaFull}} {
+	for _, r := range []api.Res{{}, {State: 4}, {Code: api.ErrReplicaFull}, {Code: api.ErrMvccIntent, By: 3}} {
 		x = start(t, 7, at(5, 0), 3)
 		x.Write([]api.Op{put("a", ""), put("b", "")})
 		do(t, x, one, 1, "begin 7 seq 1 at 5.0", api.Res{})
