@@ -89,7 +89,12 @@ func TestRight(t *testing.T) {
 		func(c *api.Catalog) { c.Next = 0 }, func(c *api.Catalog) { c.Next = 2 }, func(c *api.Catalog) { c.Next = 1<<31 + 1 }, func(c *api.Catalog) { c.Tables[0].Id = 0 }, func(c *api.Catalog) { c.Tables[0].Id = 2 }, func(c *api.Catalog) { c.Tables[1].Name = "t" }, func(c *api.Catalog) { c.Tables[1].Name = "" }, func(c *api.Catalog) { c.Tables[1].Name = long }, func(c *api.Catalog) { c.Tables[1].Name = "a\x00" },
 		func(c *api.Catalog) { c.Tables[1].Indexes[0].Name = "t_b_key" }, func(c *api.Catalog) { c.Tables[1].Indexes[0].Name = "" }, func(c *api.Catalog) { c.Tables[1].Indexes[0].Id = 1 }, func(c *api.Catalog) { c.Tables[1].Indexes[0].Id = 1<<31 + 1 }, func(c *api.Catalog) { c.Tables[1].Indexes[0].Columns = nil }, func(c *api.Catalog) { c.Tables[1].Indexes[0].Columns = []int{3} }, func(c *api.Catalog) { c.Tables[1].Indexes[0].Columns = []int{0, 0} }, func(c *api.Catalog) { c.Tables[1].Indexes[0].Columns = []int{-1} },
 		func(c *api.Catalog) { c.Tables[1].Columns[0].Name = "y" }, func(c *api.Catalog) { c.Tables[1].Columns[0].Name = long }, func(c *api.Catalog) { c.Tables[1].Columns[2].Type = 4 }, func(c *api.Catalog) { c.Tables[1].Columns[2].Type = api.TypeInt }, func(c *api.Catalog) { c.Tables[1].Columns[2].Default.Int = 2 }, func(c *api.Catalog) { c.Tables[1].Columns[2].Default.Text = "x" }, func(c *api.Catalog) { c.Tables[1].Columns[2].Default.Null = true }, func(c *api.Catalog) { c.Tables[0].Columns[1].Default.Text = "\x00" }, func(c *api.Catalog) { c.Tables[0].Columns[1].Default.Int = 1 }, func(c *api.Catalog) { c.Tables[1].Columns[1].Default.Text = "x" },
-		func(c *api.Catalog) { c.Tables[0].Columns[1].Default.Text = strings.Repeat("x", api.MaxValue) }, func(c *api.Catalog) { c.Tables[1].Key = nil }, func(c *api.Catalog) { c.Tables[1].Key = []int{1, 1} }, func(c *api.Catalog) { c.Tables[1].Key = []int{2} }, func(c *api.Catalog) { c.Tables[1].Key = []int{7} }, func(c *api.Catalog) { c.Tables[1].Columns = nil },
+		func(c *api.Catalog) { c.Tables[0].Columns[1].Default.Text = strings.Repeat("x", api.MaxValue) }, func(c *api.Catalog) { c.Tables[1].Key = nil }, func(c *api.Catalog) { c.Tables[1].Key = []int{1, 1} }, func(c *api.Catalog) { c.Tables[1].Key = []int{2} }, func(c *api.Catalog) { c.Tables[1].Key = []int{7} },
+		func(c *api.Catalog) {
+			for i := range 30 {
+				c.Tables[1].Columns = append(c.Tables[1].Columns, api.Column{Name: fmt.Sprint("more", i), Type: 1, Default: null(1)})
+			}
+		}, func(c *api.Catalog) { c.Tables[1].Columns = nil },
 	}
 	for i, f := range wrong {
 		c := base()
@@ -104,6 +109,16 @@ func TestRight(t *testing.T) {
 		if _, e := catalog.Bind(c, stmt(t, "select x")); e != api.ErrArg {
 			t.Errorf("Bind %d: %d", i, e)
 		}
+	}
+	long32 := base()
+	for i := range 29 {
+		long32.Tables[1].Columns = append(long32.Tables[1].Columns, api.Column{Name: fmt.Sprint("more", i), Type: 1, Default: null(1)})
+	}
+	is(t, "32 columns", catalog.Right(long32), true)
+	tight := made(t, "create table t (a int primary key, b text default '')")
+	for n, want := range map[int]bool{65517: true, 65518: false} {
+		tight.Tables[0].Columns[1].Default.Text = strings.Repeat("x", n)
+		is(t, "a row of 65536 bytes", catalog.Right(tight), want)
 	}
 	many := api.Catalog{Next: 1 << 31}
 	for i := range 65 {
@@ -166,6 +181,8 @@ func TestApplyErrors(t *testing.T) {
 	eight := made(t, "create table u ("+columns(8, "unique")+", c int primary key)")
 	refused(t, eight, "create index i on u (q)", api.ErrCatalogFull)
 	last := made(t, first)
+	last.Tables[0].Indexes[0].Id = 1<<31 - 1
+	refused(t, last, "create index i on t (a)", api.OK)
 	last.Tables[0].Indexes[0].Id = 1 << 31
 	refused(t, last, "create index i on t (a)", api.ErrCatalogFull)
 }
@@ -255,7 +272,7 @@ func TestBindErrors(t *testing.T) {
 		"create table x (a int primary key)": api.ErrArg, "commit": api.ErrArg, "select a from v": api.ErrNoTable, "select a from t, t x, t y, t z": api.ErrTwoColumns, "select 1 from t, t x, t y, t z": api.OK, "select 1 from t, t x, t y, t z, t w": api.ErrCatalogFull, "select 1 from t, t x, t y, t z, v": api.ErrNoTable, "select 1 from t, t x, t y, t z, t": api.ErrCatalogFull, "select t.a from t x": api.ErrNoTable, "select x.a from t x": api.OK, "select x.c from t x": api.ErrNoColumn, "select 1 from t, u t": api.ErrTwiceSource,
 		"select 1 from t join u on c": api.ErrTypes, "select 1 from t join u on null": api.OK, "select 1 from t join u on e": api.OK, "select 1 from t join u on f join t on 1": api.ErrNoColumn, "select 1 from t join u on x.a = 1 join t x on e": api.ErrNoTable, "select 1 from t join u on count(*) = 1": api.ErrGrouping, "select 1 from t where sum(a) = 1": api.ErrGrouping, "select 1 from t where a": api.ErrTypes, "select 1 from t where null": api.OK, "select 1 from t group by count(*)": api.ErrGrouping, "select *": api.ErrNoTable, "select u.* from t": api.ErrNoTable, "select t.* from t": api.OK,
 		"select sum(count(*)) from t": api.ErrGrouping, "select sum(count(q)) from t": api.ErrGrouping, "select count(q) from t": api.ErrNoColumn, "select sum(b) from t": api.ErrTypes, "select avg(e) from u": api.ErrTypes, "select min(e), max(d), sum(null), count(e) from u": api.OK, "select a from t having a": api.ErrTypes, "select a from t having true": api.OK, "select 1 from t having count(*) > 0": api.OK, "select a from t having count(*) > 0": api.ErrGrouping, "select b from t group by b having a > 0": api.ErrGrouping, "select b from t group by b order by a": api.ErrGrouping, "select b from t group by b order by count(*)": api.OK, "select a + 1 from t group by a + 1": api.OK, "select a + 1 from t group by a": api.OK, "select a from t group by a + 1": api.ErrGrouping, "select a + 2 from t group by a + 1": api.ErrGrouping, "select count(a) + a from t group by b": api.ErrGrouping, "select sum(a) from t order by a": api.ErrGrouping,
-		"select a from t order by 0": api.ErrOrderItem, "select * from t order by 2": api.OK, "select a from t order by -1": api.OK, "select a as x, b as x from t order by x": api.ErrTwoColumns, "select a as x, a as x from t order by x": api.OK, "select a as x from t order by x + 1": api.ErrNoColumn, "select a as b from t order by b": api.OK, "select a from t order by t.b": api.OK, "select distinct a from t order by t.a": api.OK, "select distinct a + 1 from t order by a + 1": api.OK, "select distinct a from t order by a + 1": api.ErrOrderItem, "select distinct count(*) from t order by a": api.ErrGrouping, "select a from t order by q": api.ErrNoColumn, "select a from t order by b like a": api.ErrTypes,
+		"select a from t order by 0": api.ErrOrderItem, "select a from t order by 'x'": api.OK, "select a from t order by true, null": api.OK, "select * from t order by 2": api.OK, "select a from t order by -1": api.OK, "select a as x, b as x from t order by x": api.ErrTwoColumns, "select a as x, a as x from t order by x": api.OK, "select a as x from t order by x + 1": api.ErrNoColumn, "select a as b from t order by b": api.OK, "select a from t order by t.b": api.OK, "select distinct a from t order by t.a": api.OK, "select distinct a + 1 from t order by a + 1": api.OK, "select distinct a from t order by a + 1": api.ErrOrderItem, "select distinct count(*) from t order by a": api.ErrGrouping, "select a from t order by q": api.ErrNoColumn, "select a from t order by b like a": api.ErrTypes,
 		"insert into v values (1)": api.ErrNoTable, "insert into t (c) values (1)": api.ErrNoColumn, "insert into t (a, b, a) values (1)": api.ErrTwiceColumn, "insert into t values (1, 'x'), (1)": api.ErrCount, "insert into t (a) values (1, 2)": api.ErrCount, "insert into t values (a, 'x')": api.ErrNoColumn, "insert into t values (t.a, 'x')": api.ErrNoTable, "insert into t values (count(*), 'x')": api.ErrGrouping, "insert into t values (null, null)": api.OK, "insert into t values (1, 2)": api.ErrTypes, "insert into t values ('x' + 1, 2), (1)": api.ErrTypes,
 		"update v set a = 1": api.ErrNoTable, "update t set c = 1": api.ErrNoColumn, "update t set a = 1, a = 'x'": api.ErrTwiceColumn, "update t set a = 'x'": api.ErrTypes, "update t set a = null, b = b || 'x' where a = 1": api.OK, "update t set a = count(*)": api.ErrGrouping, "update t set a = 1 where b": api.ErrTypes, "update t set a = 1 where max(a) = 1": api.ErrGrouping, "update t set a = t.a": api.OK, "update t set a = u.c": api.ErrNoTable, "update t set a = 'x' where q": api.ErrTypes, "delete from v": api.ErrNoTable, "delete from t where c": api.ErrNoColumn, "delete from t where b": api.ErrTypes, "delete from t where min(a) = 1": api.ErrGrouping, "delete from t where null": api.OK,
 		"select not a from t": api.ErrTypes, "select -b from t": api.ErrTypes, "select length(a) from t": api.ErrTypes, "select a || b from t": api.ErrTypes, "select a + b from t": api.ErrTypes, "select a = b from t": api.ErrTypes, "select a in (1, null, 'x') from t": api.ErrTypes, "select a between 1 and b from t": api.ErrTypes, "select a and true from t": api.ErrTypes, "select case when a then 1 end from t": api.ErrTypes, "select case when true then 1 else 'x' end": api.ErrTypes, "select case when true then 1 when false then true end": api.ErrTypes, "select coalesce(1, 'x')": api.ErrTypes, "select a like b from t": api.ErrTypes, "select 'x' + 1, q": api.ErrTypes, "select q + 'x'": api.ErrNoColumn, "select 'x' + q": api.ErrNoColumn, "select a is null, b is not null from t": api.OK,

@@ -15,7 +15,7 @@ import (
 	"cormorant/sqlplan"
 )
 
-const tables = "create table t (a int primary key, b int); create unique index tb on t (b); create table u (c int primary key, d int); create table w (x int, y text, z bool, primary key (x, y)); create index wz on w (z, x)"
+const tables = "create table y (e int primary key, f int, g int); create index yf on y (f); create index yf2 on y (f); create index yfg on y (f, g); create table t (a int primary key, b int); create unique index tb on t (b); create table u (c int primary key, d int); create table w (x int, y text, z bool, primary key (x, y)); create index wz on w (z, x)"
 
 func world(t *testing.T) api.Catalog {
 	t.Helper()
@@ -135,6 +135,9 @@ func TestPlans(t *testing.T) {
 		"select * from t join u on a = 1 join t x on x.a = u.d and t.b = 3":       "span1 =1 f2 (1+0i); scan1 f0 (1000+0i); lookup1 =#3 f1 (1+0i): (2001+0i)",
 		"select * from t left join u on c = a join t x on x.a = c where x.b > 5":  "scan1 f0 (1000+0i); lookup1 =#0 f0 (1+0i); lookup1 =#2 f2 (1+0i): (3000+0i)",
 		"select * from t where a = 1 and (b = 1 and (a > 2 and 1 = 1)) and b = 4": "span1 =1 f5 (1+0i): (1+0i)",
+		"select * from y where f = 1":                                             "span2 =1 f1 (100+100i): (100+100i)",
+		"select * from y where f = 1 and g = 2":                                   "span4 =1 =2 f2 (10+10i): (10+10i)",
+		"select * from y where f = 1 and e > 0":                                   "span2 =1 f2 (100+100i): (100+100i)",
 		"insert into t values (1, 2)":                                             ": (0+0i)",
 	} {
 		if got := show(plan(t, text)); got != want {
@@ -194,6 +197,13 @@ func TestNoPlan(t *testing.T) {
 		f(&b)
 		if p, e := sqlplan.Plan(b); e != api.ErrArg || !reflect.DeepEqual(p, api.Plan{}) {
 			t.Errorf("%d: %d", i, e)
+		}
+	}
+	for _, n := range []int{0, 4, -1} {
+		x := bound(t, "select 1 from t, u")
+		x.Sources[1].Table.Columns[1].Type = n
+		if _, e := sqlplan.Plan(x); e != api.ErrArg {
+			t.Errorf("a column of the type %d: %d", n, e)
 		}
 	}
 	b := base()
