@@ -217,6 +217,57 @@ func TestMembers(t *testing.T) {
 	w.ask(3, "select count(*) from t", "T; D 3; C SELECT 1; Z I")
 }
 
+// A log is compacted only as far as all members have it: one that is behind finds the splits.
+func TestCompactBehind(t *testing.T) {
+	w := start(t, 3, 0)
+	w.connect(1, 1)
+	w.ask(1, "create table t (a int primary key); insert into t values (1), (2)", "C CREATE TABLE; C INSERT 0 2; Z I")
+	w.do("crash 3", "split 1 0280", "calm 30", "compact 1 1", "compact 2 1", "calm 30")
+	ranges := w.Ranges(1)
+	if len(ranges) != 2 {
+		t.Fatalf("Ranges: %v", ranges)
+	}
+	w.do("start 3", "calm 40")
+	if !slices.Equal(w.Ranges(3), ranges) {
+		t.Errorf("Ranges(3): %v", w.Ranges(3))
+	}
+	w.do("compact 1 1", "crash 1", "crash 2", "crash 3", "start 1", "start 2", "start 3", "calm 60")
+	w.connect(2, 3)
+	w.ask(2, "select count(*) from t", "T; D 2; C SELECT 1; Z I")
+}
+
+// A node that becomes a member of a group that it does not have is sent its state.
+func TestNewMember(t *testing.T) {
+	w := start(t, 3, 0)
+	w.connect(1, 1)
+	w.ask(1, "create table t (a int primary key); insert into t values (1), (2), (3)", "C CREATE TABLE; C INSERT 0 3; Z I")
+	w.do("crash 3", "change 1 1 12", "calm 20", "split 1 0280", "calm 40")
+	ranges := w.Ranges(1)
+	if len(ranges) != 2 {
+		t.Fatalf("Ranges: %v", ranges)
+	}
+	w.ask(1, "insert into t values (4)", "C INSERT 0 1; Z I")
+	w.do("start 3", "wait 3 1000", "calm 20")
+	if len(w.Ranges(3)) != 1 {
+		t.Fatalf("Ranges(3): %v", w.Ranges(3))
+	}
+	for n := 1; n <= 2; n++ {
+		for _, g := range ranges {
+			w.do(fmt.Sprintf("change %d %d 123", n, g))
+		}
+	}
+	w.do("calm 40")
+	if !slices.Equal(w.Ranges(3), ranges) {
+		t.Fatalf("Ranges(3): %v", w.Ranges(3))
+	}
+	w.do("crash 1", "calm 60")
+	w.connect(2, 3)
+	w.ask(2, "select count(*) from t", "T; D 4; C SELECT 1; Z I")
+	w.do("crash 3", "start 3", "start 1", "calm 60")
+	w.connect(3, 3)
+	w.ask(3, "select count(*) from t", "T; D 4; C SELECT 1; Z I")
+}
+
 // Example 9: the wait of a commit.
 func TestCommitWait(t *testing.T) {
 	for _, offset := range []int{0, 4, 9} {
@@ -340,8 +391,8 @@ func TestHostLimits(t *testing.T) {
 	w.connect(1, 1)
 	long := func(n int) string { return "'" + strings.Repeat("x", n) + "'" }
 	w.ask(1, "create table t (a text primary key, b text)", "C CREATE TABLE; Z I")
-	w.ask(1, "insert into t values ("+long(88)+", '')", "C INSERT 0 1; Z I")
-	w.ask(1, "insert into t values ("+long(92)+", '')", "E 54000; Z I")
+	w.ask(1, "insert into t values ("+long(90)+", '')", "C INSERT 0 1; Z I")
+	w.ask(1, "insert into t values ("+long(91)+", '')", "E 54000; Z I")
 	w.ask(1, "insert into t values ('a', "+long(9997)+")", "C INSERT 0 1; Z I")
 	w.ask(1, "insert into t values ('b', "+long(9998)+")", "E 54000; Z I")
 	w.ask(1, "select count(*) from t where a = "+long(200)+" or b = 'q'", "T; D 0; C SELECT 1; Z I")
