@@ -179,7 +179,7 @@ func (m *machine) do(index int, cmd api.Cmd) (api.Res, *replica.Machine) {
 }
 
 func (m *machine) canSplit(cmd api.Cmd) bool {
-	x, e := m.copy()
+	x, e := m.twin()
 	if e != api.OK {
 		return false
 	}

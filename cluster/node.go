@@ -55,8 +55,8 @@ func newMachine(m *replica.Machine) *machine {
 	return &machine{Machine: m, taken: map[string][]byte{}}
 }
 
-// copy is another machine that is the same.
-func (m *machine) copy() (*replica.Machine, api.Errno) {
+// twin is another machine that is the same.
+func (m *machine) twin() (*replica.Machine, api.Errno) {
 	for _, op := range m.Take() {
 		if op.Del {
 			delete(m.taken, string(op.Key))
