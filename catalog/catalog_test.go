@@ -221,7 +221,7 @@ func TestStore(t *testing.T) {
 	want := []api.KV{{Key: key(0), Value: []byte{2}}, {Key: key(1), Value: []byte("\x01t\x02\x01a\x01\x01\x00\x01b\x03\x00\x01\x01x\x01\x00\x01\x02\x07t_b_key\x01\x01\x01")}}
 	is(t, "Store", []any{rows, e}, []any{want, api.OK})
 	all := made(t, first, "create table u (x int default 7, y bool default false, primary key (y))", "drop table t", "create table v (a int primary key)", "create index i on u (x, y)")
-	for _, c := range []api.Catalog{catalog.Empty(), c, all} {
+	for _, c := range []api.Catalog{catalog.Empty(), c, all, {Next: 1 << 31, Tables: all.Tables}} {
 		rows, _ := catalog.Store(c)
 		again, e := catalog.Load(rows)
 		if e != api.OK || fmt.Sprint(again) != fmt.Sprint(c) {

@@ -383,6 +383,12 @@ func TestScan(t *testing.T) {
 	if l, e := s.ScanAt(api.Span{}, 4); len(l) != 4 || e != api.OK {
 		t.Errorf("ScanAt: %d", e)
 	}
+	s.Flush()
+	for _, c := range []struct{ from, to, want string }{{"d", "", "d=D"}, {"d\x00", "", ""}, {"c", "d", "c=C"}, {"", "a", ""}, {"a", "a\x00", "a=A"}} {
+		if l, e := s.Scan(api.Span{From: []byte(c.from), To: []byte(c.to)}); text(l) != c.want || e != api.OK {
+			t.Errorf("%s to %s: %s", c.from, c.to, text(l))
+		}
+	}
 	all := s.All()
 	s.Write([]api.Op{del("a"), put("e", "E")})
 	n := 0
@@ -530,6 +536,28 @@ func TestChoice(t *testing.T) {
 	fill("p")
 	compact()
 	shown("1:g-i 1:j-l 1:m-o 1:p-p 2:b-f")
+}
+
+// P7.6: values count where a compaction divides entries; a compaction that fails says so.
+func TestDivide(t *testing.T) {
+	c := api.StoreConfig{MemBytes: 50, BlockBytes: 64, PerKey: 10, Fanout: 1}
+	for long, tables := range map[int]int{33: 1, 34: 2} {
+		d := newDisk(1000000)
+		s, _ := open(t, d, c)
+		s.Write([]api.Op{put("a", strings.Repeat("v", 33))})
+		s.Flush()
+		s.Write([]api.Op{put("b", strings.Repeat("v", long))})
+		s.Flush()
+		broken := d.Copy()
+		again, _ := open(t, broken, c)
+		broken.Arm(1, -1)
+		if done, e := again.Compact(); done || e != api.ErrDiskOff {
+			t.Errorf("Compact: %v %d", done, e)
+		}
+		if done, e := s.Compact(); !done || e != api.OK || len(s.Levels()[1]) != tables {
+			t.Errorf("%d: %d tables", long, len(s.Levels()[1]))
+		}
+	}
 }
 
 // P7.3: a memtable that is just full is not flushed. P7.6: what only a snapshot of a newer entry's moment could see goes.

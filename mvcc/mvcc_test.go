@@ -390,6 +390,20 @@ func TestTakeLoadSplit(t *testing.T) {
 		same(t, other, again)
 	}
 	s := mvcc.New()
+	put(t, s, "a", 1, at(5, 0), strings.Repeat("v", 10000), at(5, 0))
+	is(t, "Take", len(s.Take()), 1)
+	resolve(t, s, "a", 1, false, at(0, 0), true)
+	put(t, s, "a", 1, at(5, 0), strings.Repeat("v", 10000), at(5, 0))
+	is(t, "nothing has changed", len(s.Take()), 0)
+	resolve(t, s, "a", 1, true, at(5, 0), true)
+	is(t, "Take", len(s.Take()), 2)
+	put(t, s, "b", 1, at(6, 0), "x", at(6, 0))
+	resolve(t, s, "b", 1, false, at(0, 0), true)
+	is(t, "what came and went", len(s.Take()), 0)
+	if again, e := mvcc.Load(s.All()); e != api.OK || get(again, "a", at(5, 0), 0) != get(s, "a", at(5, 0), 0) {
+		t.Errorf("Load: %d", e)
+	}
+	s = mvcc.New()
 	for _, k := range []string{"", strings.Repeat("k", 111)} {
 		if x, e := s.Split([]byte(k)); x != nil || e != api.ErrArg {
 			t.Errorf("Split: %d", e)

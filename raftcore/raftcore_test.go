@@ -296,6 +296,8 @@ func TestAppended(t *testing.T) {
 	sent(t, step(t, r, appended(2, 2, true, 99)))
 	sent(t, step(t, r, appended(2, 2, true, 3)), [5]int{2, api.RaftAppend, 0, 3, 2})
 	is(t, "an entry of an earlier term is not counted", r.Log().Commit(), 0)
+	one := leader(t, loaded(t, raftlog.Point{Members: []int{1, 2, 3}}, []int{1, 1, 1, 1}, 0), 1)
+	sent(t, step(t, one, appended(3, 2, true, 4)), [5]int{3, api.RaftAppend, 0, 4, 1})
 	sent(t, step(t, r, appended(2, 2, false, 0)), [5]int{2, api.RaftAppend, 0, 3, 2})
 	sent(t, step(t, r, appended(2, 2, true, 1)), [5]int{2, api.RaftAppend, 0, 3, 2})
 	sent(t, step(t, r, appended(2, 2, true, 5)), [5]int{2, api.RaftAppend, 0, 5, 0}, [5]int{3, api.RaftAppend, 0, 4, 1})

@@ -112,7 +112,7 @@ func commands() []api.Cmd {
 		get(0, at(1, 2), "a"), get(api.MaxWall, end, long), scan(0, at(0, 0), "", "", 1), scan(3, at(1, 0), "a", long+"k", 90),
 		put(1, 1, at(1, 1), "a", ""), put(1, api.MaxWall, at(1, 1), long, string(make([]byte, 10000))), {Kind: api.CmdPut, Txn: 1, Seq: 1, Key: []byte("a"), Del: true},
 		refresh(1, 2, at(3, 4), at(5, 6), "a", "b"), begin(1, 2, at(3, 4)), finish(1, true, at(3, 4)), finish(1, false, at(3, 4)), push(1, 2, at(3, 4)), forget(7),
-		resolve(1, true, at(3, 4), "a", ""), resolve(1, false, at(0, 0), "", "b"), collect(at(3, 4)), split("a", 255),
+		resolve(1, true, at(3, 4), "a", ""), resolve(1, false, at(0, 0), "", "b"), collect(at(3, 4)), split("a", 255), split("a", 1),
 	}
 }
 

@@ -216,6 +216,9 @@ func TestRight(t *testing.T) {
 			t.Errorf("%d: %s %d", i, text, e)
 		}
 	}
+	if e := sqlparse.Right(q(func(s *api.Select) { s.Limit, s.Offset = 2147483647, 2147483647 })); e != api.OK {
+		t.Errorf("the greatest limits: %d", e)
+	}
 	deep := col("a")
 	for range 63 {
 		deep = of(api.ExprNot, deep)
@@ -255,7 +258,7 @@ func TestShow(t *testing.T) {
 		"select case when a or b then c else d = e end, coalesce(a or b, c), length(a || b), count(distinct a or b), (a)":                        "select case when a or b then c else d = e end, coalesce(a or b, c), length(a || b), count(distinct a or b), a",
 		`select "a", "A", "a b", "9", "from", "a""b", "_9", "é"`:                                                                                 `select a, "A", "a b", "9", "from", "a""b", _9, "é"`,
 		"insert into t(a,b)values(1,2),(true,false)":                                                                                             "insert into t (a, b) values (1, 2), (true, false)", "update t set a=1,b=2 where a": "update t set a = 1, b = 2 where a", "delete from t where a=1": "delete from t where a = 1",
-		"create unique index i on t(a,b)": "create unique index i on t (a, b)", "create index i on t(a)": "create index i on t (a)", "DROP TABLE t": "drop table t", "drop index i": "drop index i", "begin": "begin", "commit": "commit", "rollback": "rollback", "select a offset 5": "select a offset 5",
+		"create unique index i on t(a,b)": "create unique index i on t (a, b)", "create index i on t(a)": "create index i on t (a)", "DROP TABLE zebra": "drop table zebra", "select az09": "select az09", "drop index i": "drop index i", "begin": "begin", "commit": "commit", "rollback": "rollback", "select a offset 5": "select a offset 5",
 		"select a < b, a <= b, a > b, a >= b, a != b, a % b, a is null": "select a < b, a <= b, a > b, a >= b, a <> b, a % b, a is null",
 	}
 	for s, want := range cases {
