@@ -111,6 +111,7 @@ func TestOpenCreatePlant(t *testing.T) {
 			t.Errorf("Open(%d): %d", id, e)
 		}
 	}
+	open(t, disk(), 5)
 	s := store(t, d)
 	s.Close()
 	if m, e := multiraft.Open(s, 1); m != nil || e != api.ErrStoreClosed {

@@ -158,6 +158,7 @@ func TestSplitAndCut(t *testing.T) {
 	}
 	z := rangemeta.New()
 	is(t, "Split", z.Split(1, []byte("m"), 255), api.OK)
+	is(t, "Split", z.Split(255, []byte(strings.Repeat("x", 110)), 254), api.OK)
 	parts := x.Cut(span("", ""))
 	parts[1].Span.From[0], parts[1].Range.Span.To[0] = 'q', 'q'
 	is(t, "Cut", showParts(x.Cut(span("m", "x"))), "2[m,x)3:[m,x)")

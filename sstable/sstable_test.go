@@ -268,6 +268,27 @@ func TestReads(t *testing.T) {
 	scan("e", -1, 2)
 	scan("z", -1, 0)
 	scan("", 2, 2)
+	few := open(t, build(t, []api.Entry{put("b", 1, v), put("d", 1, v), put("f", 1, v)}, 64, 1))
+	filter, _ := bloom.Make([][]byte{[]byte("b"), []byte("d"), []byte("f")}, 1)
+	lied := 0
+	for i := range 2000 {
+		key := []byte(fmt.Sprint("c", i))
+		before := few.Reads()
+		if _, ok := few.Get(key, 9); ok {
+			t.Errorf("%q is there", key)
+		}
+		want := 0
+		if bloom.May(filter, key) {
+			want = 1
+			lied++
+		}
+		if few.Reads()-before != want {
+			t.Fatalf("Get of %q reads %d", key, few.Reads()-before)
+		}
+	}
+	if lied == 0 {
+		t.Error("the filter never lies")
+	}
 	two := open(t, build(t, []api.Entry{put("a", 1, "x"), put("c", 1, "x")}, 64, 30))
 	for range two.Scan([]byte("b")) {
 	}

@@ -116,6 +116,10 @@ func TestReplay(t *testing.T) {
 			t.Errorf("%d: %d batches, %d bytes, %d", i, len(l), n, e)
 		}
 	}
+	full := encode(t, 1, slices.Repeat([]api.Op{del("k")}, api.MaxOps)...)
+	if l, n, e := wal.Replay(full); len(l) != 1 || n != len(full) || e != api.OK {
+		t.Errorf("as many operations as may be: %d %d", n, e)
+	}
 	l, _, _ := wal.Replay(one)
 	if !sameBatch(l[0], api.Batch{Seq: 1, Ops: []api.Op{put("a", "x"), del("b")}}) {
 		t.Errorf("%v", l)
@@ -142,6 +146,9 @@ func TestOpenAndAppend(t *testing.T) {
 	}
 	if e := l.Append([]api.Op{del("a")}); e != api.ErrWalSeq {
 		t.Errorf("at the end: %d", e)
+	}
+	if e := l.Start(1); e != api.OK || l.Next() != 1 {
+		t.Errorf("Start: %d", e)
 	}
 	if e := l.Start(5); e != api.OK || l.Next() != 5 {
 		t.Errorf("Start: %d", e)
