@@ -47,8 +47,21 @@ func (c *Cluster) post(n *node, to, kind int, body []byte) {
 	c.net.Send(api.Envelope{From: n.id, To: to, Kind: kind, Body: body})
 }
 
+// offer is what a leader's message offers to a node.
+type offer struct {
+	kind, group, to, term, index, last, commit int
+}
+
+// sendRaft sends messages of raft's. What a leader offers it offers once a tick: it answers each answer, so that the same offer, made again and again, would leave no room for others.
 func (c *Cluster) sendRaft(n *node, l []api.RaftMsg) {
 	for _, m := range l {
+		if m.Kind == api.RaftAppend || m.Kind == api.RaftSnap {
+			o := offer{kind: m.Kind, group: m.Group, to: m.To, term: m.Term, index: m.Index, last: m.Index + len(m.Entries), commit: m.Commit}
+			if n.memory.offers[o] > 0 {
+				continue
+			}
+			n.memory.offers[o] = 1
+		}
 		if b, e := simnet.Encode(m); e == api.OK {
 			c.post(n, m.To, kindRaft, b)
 		}

@@ -89,6 +89,9 @@ func TestExactness(t *testing.T) {
 			if r.Intn(6) == 0 {
 				w.do(fmt.Sprintf("split %d 02800000000000000%d", 1+r.Intn(nodes), 1+r.Intn(3)))
 			}
+			for _, g := range w.Ranges(1) {
+				w.do(fmt.Sprintf("compact %d %d", 1+r.Intn(nodes), g))
+			}
 			w.send(1, query(text))
 			calm(max(count, 1))
 			want = append(want, alone(&model, s, &open, query(text))...)
@@ -422,7 +425,6 @@ func TestChaos(t *testing.T) {
 		}
 		committed += len(c.Order())
 	}
-	t.Log(committed)
 	if committed < 1000 {
 		t.Errorf("only %d have committed", committed)
 	}
@@ -467,4 +469,75 @@ func (c *chaos) finish(model rows) {
 		}
 	}
 	c.check(model)
+}
+
+// P1: whatever fails, transfers between rows leave their sum as it is, to whoever looks.
+func TestTransfers(t *testing.T) {
+	sums, moved := 0, 0
+	for seed := range int64(12) {
+		r := rand.New(rand.NewSource(seed + 900))
+		nodes := 2 + r.Intn(3)
+		w := start(t, nodes, r.Intn(4))
+		w.connect(16, 1)
+		for _, text := range []string{"create table t (a int primary key, b int)", "insert into t values (1, 100), (2, 100), (3, 100), (4, 100)"} {
+			w.send(16, query(text))
+			w.do("calm 80")
+		}
+		w.do("split 1 028000000000000001800000000000000101800000000000000300", "calm 60")
+		status := map[int]string{}
+		seen := map[int]int{}
+		conns := 0
+		for range 400 {
+			node := 1 + r.Intn(nodes)
+			flight := w.Flight()
+			switch k := r.Intn(20); {
+			case k < 6 && len(flight) > 0:
+				w.Do(fmt.Sprintf("%s %d", []string{"deliver", "deliver", "deliver", "drop", "double"}[r.Intn(5)], flight[r.Intn(min(len(flight), 9))]))
+			case k < 9:
+				w.Do(fmt.Sprint("tick ", node))
+			case k < 13:
+				w.Do(fmt.Sprint("calm ", 1+r.Intn(6)))
+			case k == 13 && r.Intn(4) == 0:
+				w.Do(fmt.Sprint("crash ", node))
+			case k == 14:
+				w.Do(fmt.Sprint("start ", node))
+			case k == 15 && conns < 15 && w.Up(node):
+				conns++
+				w.Do(fmt.Sprintf("connect %d %d", conns, node))
+				w.Send(conns, startup)
+				status[conns] = "I"
+			default:
+				for conn := 1; conn <= conns; conn++ {
+					l := answersOf(t, w.Out(conn))
+					if !w.Open(conn) || len(l) < seen[conn] {
+						continue
+					}
+					text := fmt.Sprintf("begin; update t set b = b - 1 where a = %d; update t set b = b + 1 where a = %d; commit", 1+r.Intn(4), 1+r.Intn(4))
+					if len(l) > 0 && strings.HasSuffix(l[len(l)-1], "Z E") {
+						text = "rollback"
+					} else if r.Intn(3) == 0 {
+						text = "select sum(b) from t"
+					}
+					w.Send(conn, query(text))
+					seen[conn]++
+				}
+			}
+		}
+		for conn := 1; conn <= conns; conn++ {
+			for _, a := range answersOf(t, w.Out(conn)) {
+				if strings.HasPrefix(a, "T; D ") {
+					sums++
+					if a != "T; D 400; C SELECT 1; Z I" {
+						t.Fatalf("the seed %d, the connection %d: %s", seed, conn, a)
+					}
+				}
+				if strings.HasSuffix(a, "C COMMIT; Z I") {
+					moved++
+				}
+			}
+		}
+	}
+	if sums < 150 || moved < 150 {
+		t.Errorf("only %d sums and %d transfers", sums, moved)
+	}
 }

@@ -41,6 +41,7 @@ type memory struct {
 	waiting  map[int]map[int]caller // of each group: who waits for the entry at an index
 	reports  map[int]report         // of each group
 	hints    map[int]int            // of each group: who may lead it
+	offers   map[offer]int          // that were made since the last tick
 	drivers  []*driver
 	calls    map[int]*driver // by the numbers of their requests
 }
@@ -99,7 +100,7 @@ func (c *Cluster) start(n *node) api.Errno {
 	}
 	m := &memory{
 		node: n, multi: multi, machines: map[int]*machine{}, clock: clock, waiting: map[int]map[int]caller{},
-		reports: map[int]report{}, hints: map[int]int{}, calls: map[int]*driver{},
+		reports: map[int]report{}, hints: map[int]int{}, offers: map[offer]int{}, calls: map[int]*driver{},
 	}
 	if !slices.Contains(multi.Groups(), firstRange) {
 		if e := multi.Create(firstRange, c.everybody()); e != api.OK {
@@ -201,6 +202,7 @@ func (c *Cluster) tick(n *node) {
 	if m == nil {
 		return
 	}
+	m.offers = map[offer]int{}
 	for _, g := range m.multi.Groups() {
 		l, e := m.multi.Tick(g, n.wait)
 		if !c.sound(n, e) {
