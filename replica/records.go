@@ -1,6 +1,9 @@
 package replica
 
 import (
+	"bytes"
+	"slices"
+
 	"cormorant/api"
 	"cormorant/hlc"
 )
@@ -83,15 +86,26 @@ func (m *Machine) resolve(c api.Cmd) api.Res {
 	if !m.holdsSpan(c.Span) {
 		return code(api.ErrReplicaKey)
 	}
-	for _, i := range m.space.Intents() {
-		if i.Txn != c.Txn || !contains(c.Span, i.Key) {
-			continue
-		}
-		if _, e := m.space.Resolve(i.Key, c.Txn, c.Yes, c.At); e != api.OK {
+	for _, key := range m.intentsOf(c.Txn, c.Span) {
+		if _, e := m.space.Resolve(key, c.Txn, c.Yes, c.At); e != api.OK {
 			return code(e)
 		}
 	}
 	return api.Res{}
+}
+
+// intentsOf are the keys in a span at which a transaction has an intent, rising. A span that has only one key need not be searched for: where that has none, there is nothing to resolve.
+func (m *Machine) intentsOf(txn int, p api.Span) [][]byte {
+	if isKey(p.From) && bytes.Equal(p.To, append(slices.Clone(p.From), 0)) {
+		return [][]byte{p.From}
+	}
+	var keys [][]byte
+	for _, i := range m.space.Intents() {
+		if i.Txn == txn && contains(p, i.Key) {
+			keys = append(keys, i.Key)
+		}
+	}
+	return keys
 }
 
 func (m *Machine) collect(c api.Cmd) api.Res {

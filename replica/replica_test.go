@@ -335,6 +335,24 @@ func TestReadsAndWrites(t *testing.T) {
 	is(t, "Intents", len(m.Intents()), 1)
 }
 
+// P14.3: resolving one key.
+func TestResolveOne(t *testing.T) {
+	long := strings.Repeat("k", 110)
+	m := machine(t, "", "")
+	for i, k := range []string{"a", "a\x00", "b", long} {
+		apply(t, m, put(1, 1+i, at(5, 0), k, k))
+	}
+	for _, c := range []api.Cmd{resolve(1, true, at(6, 0), "", "\x00"), resolve(1, true, at(6, 0), "c", "c\x00"), resolve(2, true, at(6, 0), "a", "a\x00"), resolve(1, true, at(6, 0), long+"k", long+"l"), resolve(1, false, at(0, 0), "aa", "aa\x00")} {
+		is(t, "Resolve", apply(t, m, c), api.Res{})
+		is(t, "Intents", len(m.Intents()), 4)
+	}
+	is(t, "Resolve", apply(t, m, resolve(1, true, at(4, 0), "a", "a\x00")), api.Res{Code: api.ErrArg})
+	is(t, "Resolve", apply(t, m, resolve(1, true, at(6, 0), "a", "a\x00")), api.Res{})
+	is(t, "Resolve", apply(t, m, resolve(1, false, at(0, 0), long, long+"\x00")), api.Res{})
+	is(t, "Intents", len(m.Intents()), 2)
+	is(t, "Scan", apply(t, m, scan(1, at(9, 0), "", "", 9)), api.Res{Rows: []api.KV{{Key: []byte("a"), Value: []byte("a")}, {Key: []byte("a\x00"), Value: []byte("a\x00")}, {Key: []byte("b"), Value: []byte("b")}}})
+}
+
 // P14.3: a deletion.
 func TestDel(t *testing.T) {
 	m := machine(t, "", "")
