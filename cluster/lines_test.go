@@ -491,3 +491,23 @@ func TestSameAgain(t *testing.T) {
 		t.Error("it is not the same")
 	}
 }
+
+// P25.6: a statement with as many writes as may be is answered in time.
+func TestLargeStatements(t *testing.T) {
+	for _, node := range []int{1, 5} {
+		w := start(t, 5, 0)
+		w.connect(1, node)
+		w.ask(1, "create table t (a int primary key, b int unique)", "C CREATE TABLE; Z I")
+		var l []string
+		for i := range 999 {
+			l = append(l, fmt.Sprintf("(%d, %d)", i, i))
+		}
+		for _, x := range [][2]string{{"insert into t values " + strings.Join(l, ", "), "C INSERT 0 999; Z I"}, {"delete from t where a >= 0", "C DELETE 999; Z I"}, {"select count(*) from t", "T; D 0; C SELECT 1; Z I"}} {
+			w.send(1, query(x[0]))
+			w.do("calm 60")
+			if s := w.fresh(1); s != x[1] {
+				t.Errorf("%.20s: %s", x[0], s)
+			}
+		}
+	}
+}
