@@ -4,7 +4,6 @@ import (
 	"bytes"
 	"fmt"
 	"hash/fnv"
-	"math/bits"
 	"math/rand"
 	"testing"
 
@@ -27,6 +26,21 @@ func TestHash(t *testing.T) {
 	}
 }
 
+// step is a hash with its lowest 33 bits as the highest ones, the other 31 behind them, and the lowest bit set.
+func step(h uint64) uint64 {
+	lowest := h % (1 << 33)
+	others := h / (1 << 33)
+	return (lowest*(1<<31) + others) | 1
+}
+
+func TestStep(t *testing.T) {
+	for h, want := range map[uint64]uint64{0: 1, 1: 1<<31 + 1, 1 << 32: 1<<63 + 1, 1 << 33: 1, 1 << 34: 3, 1 << 63: 1<<30 + 1, 14695981039346656037: 4760605603728543347} {
+		if s := step(h); s != want {
+			t.Errorf("of %x: %x, want %x", h, s, want)
+		}
+	}
+}
+
 func model(keys [][]byte, p int) []byte {
 	words := 1
 	for words*64 < len(keys)*p {
@@ -40,7 +54,7 @@ func model(keys [][]byte, p int) []byte {
 	f[0] = byte(k)
 	for _, key := range keys {
 		h := bloom.Hash(key)
-		s := bits.RotateLeft64(h, 33) | 1
+		s := step(h)
 		for i := range k {
 			j := (h + uint64(i)*s) % uint64(words*64)
 			f[1+j/8] |= 1 << (j % 8)
@@ -79,6 +93,38 @@ func TestMake(t *testing.T) {
 			if e != api.OK || !bytes.Equal(f, model(some(n), p)) {
 				t.Errorf("%d keys, %d bits: %v %d", n, p, f, e)
 			}
+		}
+	}
+}
+
+// P3.2, P3.3: filters written out, which hold the way a hash is turned.
+func TestFilterBytes(t *testing.T) {
+	cases := []struct {
+		keys   string // with blanks between
+		perKey int
+		want   []byte
+	}{
+		{"", 1, []byte{1, 0, 0, 0, 0, 32, 0, 0, 0}},
+		{"", 3, []byte{2, 0, 0, 0, 1, 32, 0, 0, 0}},
+		{"", 10, []byte{6, 0, 8, 0, 1, 48, 0, 2, 64}},
+		{"", 30, []byte{20, 0, 15, 224, 1, 60, 192, 3, 120}},
+		{"k", 30, []byte{20, 36, 37, 9, 73, 66, 146, 146, 132}},
+		{"ab", 3, []byte{2, 0, 0, 0, 0, 0, 36, 0, 0}},
+		{"a b", 10, []byte{6, 2, 144, 0, 4, 32, 1, 8, 0}},
+		{"a b c d e f g", 10, []byte{6, 11, 208, 0, 30, 224, 1, 104, 0, 7, 240, 0, 22, 128, 3, 60, 0}},
+	}
+	for _, c := range cases {
+		keys := bytes.Split([]byte(c.keys), []byte(" "))
+		if f, e := bloom.Make(keys, c.perKey); e != api.OK || !bytes.Equal(f, c.want) {
+			t.Errorf("of %q, %d bits: %v %d, want %v", c.keys, c.perKey, f, e, c.want)
+		}
+		for _, key := range keys {
+			if !bloom.May(c.want, key) {
+				t.Errorf("%v lacks %q", c.want, key)
+			}
+		}
+		if bloom.May(c.want, []byte("other")) {
+			t.Errorf("%v has a key that is not there", c.want)
 		}
 	}
 }

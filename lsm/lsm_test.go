@@ -52,6 +52,24 @@ func files(t *testing.T, d *vdisk.Disk, want string) {
 	}
 }
 
+// table holds a file to the bytes of a table of one block, 64 bytes at most, 10 bits a key.
+func table(t *testing.T, d *vdisk.Disk, name string, block, filter []byte, count byte, last string) {
+	t.Helper()
+	want, _ := codec.Frame('D', block)
+	filterAt := byte(len(want))
+	f, _ := codec.Frame('F', filter)
+	want = append(want, f...)
+	indexAt := byte(len(want))
+	f, _ = codec.Frame('I', append([]byte{1, 0, filterAt, count, byte(len(last))}, last...))
+	want = append(want, f...)
+	foot := []byte{0, 0, 0, 0, 0, 0, 0, filterAt, 0, 0, 0, 0, 0, 0, 0, indexAt, 0, 0, 0, 0, 0, 0, 0, count, 0, 0, 0, 64, 0, 0, 0, 10, 67, 79, 82, 77}
+	s := codec.Sum(foot)
+	want = append(append(want, foot...), byte(s), byte(s>>8), byte(s>>16), byte(s>>24))
+	if got, e := d.Read(name); e != api.OK || !bytes.Equal(got, want) {
+		t.Errorf("%s: %v, want %v", name, got, want)
+	}
+}
+
 func text(l []api.KV) string {
 	var s []string
 	for _, kv := range l {
@@ -79,6 +97,7 @@ func TestExample(t *testing.T) {
 	files(t, d, "cur w1")
 	code(t, "Write", s.Write([]api.Op{put("c", "3")}), api.OK)
 	files(t, d, "cur t2 w3")
+	table(t, d, "t2", []byte{0, 1, 3, 1, 0, 97, 0, 1, 2, 0, 1, 98, 50}, []byte{6, 2, 144, 0, 4, 32, 1, 8, 0}, 2, "b")
 	want := make([][]api.TableInfo, 7)
 	want[0] = []api.TableInfo{{File: 2, Entries: 2, First: []byte("a"), Last: []byte("b")}}
 	if got := s.Levels(); !reflect.DeepEqual(got, want) {
@@ -460,6 +479,7 @@ func TestCompact(t *testing.T) {
 	if d.Count()-count != 7 {
 		t.Errorf("a compaction makes %d changes", d.Count()-count)
 	}
+	table(t, d, "t6", []byte{0, 1, 2, 0, 1, 98, 49, 0, 1, 7, 0, 1, 100, 50}, []byte{6, 2, 144, 0, 4, 32, 1, 72, 0}, 2, "d")
 	want := make([][]api.TableInfo, 7)
 	want[1] = []api.TableInfo{{File: 6, Entries: 2, First: []byte("b"), Last: []byte("d")}}
 	if got := s.Levels(); !reflect.DeepEqual(got, want) {

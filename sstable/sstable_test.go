@@ -52,8 +52,7 @@ func TestBuildBytes(t *testing.T) {
 	body := []byte{0, 1, 2, 0, 1, 97, 120, 1, 0, 1, 1, 0, 0, 1, 3, 0, 2, 98, 121, 122}
 	want, _ := codec.Frame('D', body)
 	blockLen := len(want)
-	filter, _ := bloom.Make([][]byte{[]byte("a"), []byte("b")}, 10)
-	f, _ := codec.Frame('F', filter)
+	f, _ := codec.Frame('F', []byte{6, 2, 144, 0, 4, 32, 1, 8, 0})
 	want = append(want, f...)
 	indexAt := len(want)
 	f, _ = codec.Frame('I', []byte{1, 0, byte(blockLen), 3, 1, 98})
@@ -63,6 +62,27 @@ func TestBuildBytes(t *testing.T) {
 	want = append(append(want, foot...), byte(s), byte(s>>8), byte(s>>16), byte(s>>24))
 	if !bytes.Equal(b, want) {
 		t.Errorf("%v\n%v", b, want)
+	}
+}
+
+// P4.2: a table whose filter is another one, whole as its frame is, is not what Build returns.
+func TestOpenFilter(t *testing.T) {
+	b := build(t, example, 64, 10)
+	right := []byte{6, 2, 144, 0, 4, 32, 1, 8, 0}
+	framed, _ := codec.Frame('F', right)
+	if !bytes.Contains(b, framed) {
+		t.Fatalf("%v does not hold %v", b, framed)
+	}
+	for i := range len(right) * 8 {
+		filter := slices.Clone(right)
+		filter[i/8] ^= 1 << (i % 8)
+		other, _ := codec.Frame('F', filter)
+		if x, e := sstable.Open(bytes.Replace(b, framed, other, 1)); x != nil || e != api.ErrTableForm {
+			t.Errorf("with the filter %v: %d", filter, e)
+		}
+	}
+	if _, e := sstable.Open(bytes.Replace(b, framed, framed, 1)); e != api.OK {
+		t.Errorf("with its own filter: %d", e)
 	}
 }
 
